@@ -3,11 +3,12 @@ package hasp
 
 import (
 	"hasp/api"
+	"hasp/automaton"
 	"hasp/syntax"
 )
 
 // Machine is a table that searches.
-type Machine struct{}
+type Machine struct{ automaton *automaton.Automaton }
 
 // Parse reads a pattern (P3).
 func Parse(pattern string) (string, api.Errno, int) {
@@ -22,22 +23,53 @@ func Parse(pattern string) (string, api.Errno, int) {
 func Compile(pattern string, limit int) (*Machine, api.Errno, int) { return nil, api.OK, 0 }
 
 // Build makes a machine of a table (P6).
-func Build(t api.Table) (*Machine, api.Errno) { return nil, api.OK }
+func Build(t api.Table) (*Machine, api.Errno) {
+	a, ok := automaton.New(t)
+	if !ok {
+		return nil, api.ErrTable
+	}
+	return &Machine{a}, api.OK
+}
 
 // Table tells a machine's table (P6).
-func (m *Machine) Table() (api.Table, api.Errno) { return api.Table{}, api.OK }
+func (m *Machine) Table() (api.Table, api.Errno) {
+	if m == nil {
+		return api.Table{}, api.ErrNil
+	}
+	return m.automaton.Table(), api.OK
+}
 
 // Encode writes a machine's table (P7).
-func (m *Machine) Encode(kind int, big bool) (string, api.Errno) { return "", api.OK }
+func (m *Machine) Encode(kind int, big bool) (string, api.Errno) {
+	if m == nil {
+		return "", api.ErrNil
+	}
+	return "", api.OK
+}
 
 // Load makes a machine of bytes (P8).
 func Load(b string) (*Machine, api.Errno) { return nil, api.OK }
 
 // IsMatch tells whether a text has a match (P9).
-func (m *Machine) IsMatch(text string) (bool, api.Errno) { return false, api.OK }
+func (m *Machine) IsMatch(text string) (bool, api.Errno) {
+	if m == nil {
+		return false, api.ErrNil
+	}
+	return m.automaton.FirstEnd(text) >= 0, api.OK
+}
 
 // ShortestEnd tells where the first match ends (P9).
-func (m *Machine) ShortestEnd(text string) (int, api.Errno) { return 0, api.OK }
+func (m *Machine) ShortestEnd(text string) (int, api.Errno) {
+	if m == nil {
+		return 0, api.ErrNil
+	}
+	return m.automaton.FirstEnd(text), api.OK
+}
 
 // LongestEnd tells where the last match ends (P9).
-func (m *Machine) LongestEnd(text string) (int, api.Errno) { return 0, api.OK }
+func (m *Machine) LongestEnd(text string) (int, api.Errno) {
+	if m == nil {
+		return 0, api.ErrNil
+	}
+	return m.automaton.LastEnd(text), api.OK
+}
