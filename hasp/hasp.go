@@ -5,6 +5,7 @@ import (
 	"hasp/api"
 	"hasp/automaton"
 	"hasp/syntax"
+	"hasp/wire"
 )
 
 // Machine is a table that searches.
@@ -44,11 +45,24 @@ func (m *Machine) Encode(kind int, big bool) (string, api.Errno) {
 	if m == nil {
 		return "", api.ErrNil
 	}
-	return "", api.OK
+	if kind != api.Dense && kind != api.Sparse {
+		return "", api.ErrArg
+	}
+	return wire.Write(m.automaton.Table(), kind, big), api.OK
 }
 
 // Load makes a machine of bytes (P8).
-func Load(b string) (*Machine, api.Errno) { return nil, api.OK }
+func Load(b string) (*Machine, api.Errno) {
+	t, ok := wire.Read(b)
+	if !ok {
+		return nil, api.ErrBytes
+	}
+	a, ok := automaton.New(t)
+	if !ok {
+		return nil, api.ErrBytes
+	}
+	return &Machine{a}, api.OK
+}
 
 // IsMatch tells whether a text has a match (P9).
 func (m *Machine) IsMatch(text string) (bool, api.Errno) {
