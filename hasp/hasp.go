@@ -4,6 +4,8 @@ package hasp
 import (
 	"hasp/api"
 	"hasp/automaton"
+	"hasp/least"
+	"hasp/search"
 	"hasp/syntax"
 	"hasp/wire"
 )
@@ -21,7 +23,22 @@ func Parse(pattern string) (string, api.Errno, int) {
 }
 
 // Compile makes a machine of a pattern (P4).
-func Compile(pattern string, limit int) (*Machine, api.Errno, int) { return nil, api.OK, 0 }
+func Compile(pattern string, limit int) (*Machine, api.Errno, int) {
+	if limit < 1 || limit > api.MaxStates {
+		return nil, api.ErrArg, 0
+	}
+	tree, err, place := syntax.Read(pattern)
+	if err != api.OK {
+		return nil, err, place
+	}
+	t, ok := search.Table(tree, limit)
+	if !ok {
+		return nil, api.ErrLimit, 0
+	}
+	// The least table is a table, so New takes it.
+	a, _ := automaton.New(least.Table(t))
+	return &Machine{a}, api.OK, 0
+}
 
 // Build makes a machine of a table (P6).
 func Build(t api.Table) (*Machine, api.Errno) {

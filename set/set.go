@@ -1,6 +1,11 @@
 // Package set: sets of small numbers.
 package set
 
+import (
+	"iter"
+	"math/bits"
+)
+
 // Small is what a set can hold: kinds of which every number fits, so that none is ever out of its room.
 type Small interface{ ~uint8 }
 
@@ -32,5 +37,31 @@ func (s *Set[T]) AddAll(other Set[T]) {
 func (s *Set[T]) Invert() {
 	for i, w := range s.words {
 		s.words[i] = ^w
+	}
+}
+
+// Common tells what is in both sets.
+func (s Set[T]) Common(other Set[T]) Set[T] {
+	for i, w := range other.words {
+		s.words[i] &= w
+	}
+	return s
+}
+
+// Empty tells whether nothing is in the set.
+func (s Set[T]) Empty() bool { return s == Set[T]{} }
+
+// All goes through what is in the set, rising.
+func (s Set[T]) All() iter.Seq[T] {
+	return func(yield func(T) bool) {
+		for i, w := range s.words {
+			for w != 0 {
+				if !yield(T(64*i + bits.TrailingZeros64(w))) {
+					return
+				}
+				// This turns off the lowest bit alone.
+				w &= w - 1
+			}
+		}
 	}
 }

@@ -77,3 +77,63 @@ func TestIsAValue(t *testing.T) {
 		t.Error("a copy shares memory")
 	}
 }
+
+func TestCommonAndEmpty(t *testing.T) {
+	var s, other, none Set[spot]
+	s.AddSpan(0, 130)
+	other.AddSpan(127, 255)
+	if got := holds(s.Common(other)); !same(got, []int{127, 128, 129, 130}) {
+		t.Errorf("common are %v", got)
+	}
+	if s.Common(other) != other.Common(s) {
+		t.Error("what is common hangs on the order")
+	}
+	if len(holds(s)) != 131 || len(holds(other)) != 129 {
+		t.Error("a set was changed")
+	}
+	if got := s.Common(none); !got.Empty() || !none.Empty() || s.Empty() {
+		t.Errorf("common with none are %v", holds(got))
+	}
+	for n := range 256 {
+		var one Set[spot]
+		if one.Add(spot(n)); one.Empty() {
+			t.Errorf("a set with %d is empty", n)
+		}
+	}
+}
+
+func TestAll(t *testing.T) {
+	var s Set[spot]
+	for range s.All() {
+		t.Error("an empty set has something")
+	}
+	for _, n := range []spot{255, 0, 63, 64, 128, 1, 191, 192} {
+		s.Add(n)
+	}
+	var all []int
+	for n := range s.All() {
+		all = append(all, int(n))
+	}
+	if !same(all, []int{0, 1, 63, 64, 128, 191, 192, 255}) {
+		t.Errorf("all are %v", all)
+	}
+	for n := range s.All() {
+		if n == 64 {
+			break
+		}
+		if n > 64 {
+			t.Errorf("gone on to %d", n)
+		}
+	}
+	s.AddSpan(0, 255)
+	count := 0
+	for n := range s.All() {
+		if int(n) != count {
+			t.Fatalf("%d comes as %d", n, count)
+		}
+		count++
+	}
+	if count != 256 {
+		t.Errorf("of 256 there came %d", count)
+	}
+}
